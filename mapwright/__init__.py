@@ -1,0 +1,1 @@
+"""Mapwright: small worlds told by their own maps."""

@@ -1,0 +1,118 @@
+"""The form of the package's files, as far as it can be read off them plainly (LANGUAGE.md)."""
+
+import ast
+import builtins
+import pathlib
+import re
+import unittest
+
+PACKAGE = pathlib.Path(__file__).resolve().parent.parent / "mapwright"
+OWN_NAMES = """
+len range enumerate zip min max sum abs sorted reversed int str bool list tuple dict set frozenset isinstance ord
+repr any all divmod Exception ValueError TypeError KeyError IndexError LookupError ZeroDivisionError ArithmeticError
+OverflowError RuntimeError NotImplementedError AttributeError StopIteration
+""".split()
+FORBIDDEN_NODES = """
+With Match Delete Global Nonlocal Assert Yield YieldFrom Await AsyncFunctionDef AsyncFor AsyncWith SetComp DictComp
+GeneratorExp NamedExpr Starred Div AnnAssign Import MatMult TryStar
+""".split()
+FORBIDDEN_WORDS = """
+type typing typing_extensions enum Enum IntEnum StrEnum Flag IntFlag Generic Protocol ABC ABCMeta namedtuple
+NamedTuple TypedDict TYPE_CHECKING abstractmethod
+""".split()
+FORBIDDEN_ANYWHERE = ("dataclass", "overload", "contextmanager")
+SPECIAL_METHODS = ("__init__", "__eq__", "__repr__", "__str__", "__len__")
+
+
+def bound_names(node):
+    """The names that a node of the tree binds."""
+    if isinstance(node, (ast.FunctionDef, ast.ClassDef)):
+        return [node.name]
+    if isinstance(node, ast.arg):
+        return [node.arg]
+    if isinstance(node, ast.Name) and isinstance(node.ctx, ast.Store):
+        return [node.id]
+    return []
+
+
+class Form(unittest.TestCase):
+    def setUp(self):
+        self.files = sorted(PACKAGE.glob("*.py"))
+        self.texts = {file: file.read_text(encoding="utf-8") for file in self.files}
+        self.trees = {file: ast.parse(text) for file, text in self.texts.items()}
+
+    def nodes(self):
+        for file, tree in self.trees.items():
+            for node in ast.walk(tree):
+                yield f"{file.name}:{getattr(node, 'lineno', 0)}", node
+
+    def test_only_plain_files_lie_in_the_package(self):
+        self.assertIn(PACKAGE / "__init__.py", self.files)
+        for path in PACKAGE.iterdir():
+            if path.name != "__pycache__":
+                self.assertRegex(path.name, r"^[a-z0-9_]+\.py$")
+
+    def test_signs_and_sizes(self):
+        for file, text in self.texts.items():
+            rows = text.split("\n")
+            self.assertLessEqual(len(rows), 401, file.name)
+            for number, row in enumerate(rows, start=1):
+                self.assertRegex(row, r"^[ -~]{0,120}$", f"{file.name}:{number}")
+
+    def test_functions_have_at_most_forty_lines(self):
+        for place, node in self.nodes():
+            if isinstance(node, ast.FunctionDef):
+                self.assertLessEqual(node.end_lineno - node.lineno + 1, 40, place)
+                self.assertEqual(node.decorator_list, [], place)
+
+    def test_words_that_stand_nowhere(self):
+        for file, text in self.texts.items():
+            self.assertEqual([word for word in re.findall(r"\w+", text) if word in FORBIDDEN_WORDS], [], file.name)
+            self.assertEqual([word for word in FORBIDDEN_ANYWHERE if word in text], [], file.name)
+
+    def test_statements_and_expressions(self):
+        for place, node in self.nodes():
+            self.assertNotIn(node.__class__.__name__, FORBIDDEN_NODES, place)
+            if isinstance(node, ast.Assign):
+                self.assertEqual(len(node.targets), 1, place)
+            if isinstance(node, ast.ListComp):
+                self.assertEqual(len(node.generators), 1, place)
+                self.assertLessEqual(len(node.generators[0].ifs), 1, place)
+            if isinstance(node, (ast.For, ast.While)):
+                self.assertEqual(node.orelse, [], place)
+            if isinstance(node, ast.Constant):
+                self.assertNotIsInstance(node.value, (float, bytes, complex), place)
+
+    def test_names(self):
+        for place, node in self.nodes():
+            for name in bound_names(node):
+                if name not in SPECIAL_METHODS:
+                    self.assertRegex(name, r"^[A-Za-z][A-Za-z0-9_]*$", place)
+                    self.assertNotIn(name, dir(builtins), place)
+            if isinstance(node, ast.Name) and node.id in dir(builtins):
+                self.assertIn(node.id, OWN_NAMES, place)
+
+    def test_imports_are_of_the_very_file_that_defines_the_name(self):
+        for place, node in self.nodes():
+            if isinstance(node, ast.ImportFrom):
+                self.assertEqual(node.level, 0, place)
+                package, dot, name = node.module.partition(".")
+                self.assertEqual(package, "mapwright", place)
+                tree = self.trees[PACKAGE / f"{name}.py"]
+                tops = [top.targets[0] if isinstance(top, ast.Assign) else top for top in tree.body]
+                here = [found for top in tops for found in bound_names(top)]
+                for alias in node.names:
+                    self.assertIn(alias.name, here, place)
+
+    def test_no_two_files_draw_from_one_another(self):
+        drawn = {}
+        for file, tree in self.trees.items():
+            drawn[file.stem] = [node.module.split(".")[1] for node in tree.body if isinstance(node, ast.ImportFrom)]
+        while drawn:
+            free = [name for name, others in drawn.items() if not any(other in drawn for other in others)]
+            self.assertNotEqual(free, [], f"these draw from one another: {sorted(drawn)}")
+            drawn = {name: others for name, others in drawn.items() if name not in free}
+
+
+if __name__ == "__main__":
+    unittest.main()
