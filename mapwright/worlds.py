@@ -51,6 +51,14 @@ def things(world):
     return sum(world[0])
 
 
+def spots(world):
+    """All things as tuples (kind, thing), by kinds, then numbers."""
+    told = []
+    for kind, size in enumerate(world[0]):
+        told.extend([(kind, thing) for thing in range(size)])
+    return told
+
+
 def renumbered(pattern, world, orders):
     """The world in which thing i of a kind is called what stands at place i of the kind's order."""
     acts = []

@@ -1,4 +1,4 @@
-"""Patterns on which the tests draw, each as the three things that Pattern takes."""
+"""Patterns on which the tests draw, each as the three things that Pattern takes, and worlds of them."""
 
 from mapwright.patterns import Pattern
 
@@ -48,6 +48,30 @@ HOOK = (
 
 ALL = (PLAIN, PLAIN_TWO, PLAIN_THREE, GRAPH, FLIP, REST, TURN, TURN_SIX, CHAIN, LOOPS, HOOK)
 
+# Three arrows between two points: 0 to 1, 1 to 1, 1 to 0.
+ARROWS = ((3, 2), ((0, 1, 1), (1, 1, 0)))
+FLIPPED = ((3,), ((1, 0, 2),))
+RESTED = ((4,), ((2, 1, 2, 1),))
+TURNED = ((4,), ((1, 2, 0, 3), (2, 0, 1, 3)))
+LINKED = ((2, 3, 2), ((2, 0), (1, 0, 0), (0, 1)))
+# Points 0 and 1 with their own arrows 0 and 2, and an arrow 1 from point 0 to point 1.
+LOOPED = ((3, 2), ((0, 0, 1), (0, 1, 1), (0, 2), (0, 0, 2), (0, 2, 2)))
+HOOKED = ((1, 1, 2), ((0,), (1,), (1, 1), (1,), (1,)))
+
+RIGHT = (
+    (PLAIN, ((5,), ())),
+    (PLAIN_TWO, ((0, 3), ())),
+    (PLAIN_THREE, ((1, 0, 2), ())),
+    (GRAPH, ARROWS),
+    (FLIP, FLIPPED),
+    (REST, RESTED),
+    (TURN, TURNED),
+    (TURN_SIX, ((3,), ((1, 2, 0), (2, 0, 1), (0, 1, 2), (1, 2, 0), (2, 0, 1)))),
+    (CHAIN, LINKED),
+    (LOOPS, LOOPED),
+    (HOOK, HOOKED),
+)
+
 
 def made(sample):
     """The pattern of a sample; its table is copied, so that no test can spoil it for another."""
@@ -66,3 +90,8 @@ def table_without(sample, pair):
     table = dict(sample[2])
     del table[pair]
     return (sample[0], sample[1], table)
+
+
+def nothing_of(sample):
+    """The world without things."""
+    return ((0,) * sample[0], ((),) * len(sample[1]))

@@ -21,6 +21,14 @@ type typing typing_extensions enum Enum IntEnum StrEnum Flag IntFlag Generic Pro
 NamedTuple TypedDict TYPE_CHECKING abstractmethod
 """.split()
 FORBIDDEN_ANYWHERE = ("dataclass", "overload", "contextmanager")
+METHODS = """
+append clear copy count endswith extend find get index insert isalnum isalpha isdigit islower isspace isupper items join
+keys ljust lower lstrip partition pop remove replace reverse rfind rjust rpartition rsplit rstrip setdefault split
+splitlines startswith strip update upper values zfill bit_length
+""".split()
+WALKS = ("zip", "enumerate", "reversed", "range")
+WALK_METHODS = ("items", "keys", "values")
+WALKERS = ("list", "tuple", "dict", "sorted", "sum", "any", "all", "enumerate", "zip", "min", "max")
 SPECIAL_METHODS = ("__init__", "__eq__", "__repr__", "__str__", "__len__")
 
 
@@ -33,6 +41,20 @@ def bound_names(node):
     if isinstance(node, ast.Name) and isinstance(node.ctx, ast.Store):
         return [node.id]
     return []
+
+
+def called(node):
+    """The plain name that a node of the tree calls, or None."""
+    if isinstance(node, ast.Call) and isinstance(node.func, ast.Name):
+        return node.func.id
+    return None
+
+
+def is_walk(node):
+    """Whether a node makes what is walked at once."""
+    if isinstance(node, ast.Call) and isinstance(node.func, ast.Attribute):
+        return node.func.attr in WALK_METHODS
+    return called(node) in WALKS
 
 
 class Form(unittest.TestCase):
@@ -91,6 +113,54 @@ class Form(unittest.TestCase):
                     self.assertNotIn(name, dir(builtins), place)
             if isinstance(node, ast.Name) and node.id in dir(builtins):
                 self.assertIn(node.id, OWN_NAMES, place)
+
+    def test_locals_are_not_called_like_imports_or_classes(self):
+        for file, tree in self.trees.items():
+            taken = [alias.name for node in ast.walk(tree) if isinstance(node, ast.ImportFrom) for alias in node.names]
+            taken.extend([node.name for node in tree.body if isinstance(node, ast.ClassDef)])
+            for top in ast.walk(tree):
+                if isinstance(top, (ast.FunctionDef, ast.Lambda)):
+                    for node in ast.walk(top):
+                        for name in bound_names(node):
+                            self.assertNotIn(name, taken, f"{file.name}:{node.lineno}")
+
+    def test_methods_and_values(self):
+        classes = [node for place, node in self.nodes() if isinstance(node, ast.ClassDef)]
+        methods = [node.name for top in classes for node in top.body if isinstance(node, ast.FunctionDef)]
+        attributes = [(place, node) for place, node in self.nodes() if isinstance(node, ast.Attribute)]
+        values = [node.attr for place, node in attributes if isinstance(node.ctx, ast.Store)]
+        self.assertEqual([name for name in methods if name in values], [])
+        for place, node in attributes:
+            self.assertIn(node.attr, METHODS + methods + values, place)
+
+    def test_what_is_walked_at_once_is_not_kept(self):
+        for file, tree in self.trees.items():
+            walked = []
+            for node in ast.walk(tree):
+                if isinstance(node, (ast.For, ast.comprehension)):
+                    walked.append(node.iter)
+                if called(node) in WALKERS:
+                    walked.extend(node.args[:1])
+                if isinstance(node, ast.Call) and isinstance(node.func, ast.Attribute) and node.func.attr == "join":
+                    walked.extend(node.args[:1])
+            for node in ast.walk(tree):
+                if is_walk(node):
+                    self.assertIn(node, walked, f"{file.name}:{node.lineno}")
+
+    def test_sets_are_not_kept(self):
+        for file, tree in self.trees.items():
+            right = []
+            for node in ast.walk(tree):
+                if isinstance(node, ast.Compare):
+                    right.extend([node.left] + node.comparators)
+                if called(node) in ("sorted", "len"):
+                    right.extend(node.args)
+            for node in right:
+                if isinstance(node, ast.BinOp):
+                    right.extend([node.left, node.right])
+            for node in ast.walk(tree):
+                if called(node) == "set":
+                    self.assertIn(node, right, f"{file.name}:{node.lineno}")
 
     def test_imports_are_of_the_very_file_that_defines_the_name(self):
         for place, node in self.nodes():

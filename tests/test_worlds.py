@@ -6,37 +6,9 @@ import unittest
 from mapwright.patterns import Pattern
 from mapwright.worlds import is_world, led, renumbered, things
 from tests.samples import (
-    ALL, CHAIN, FLIP, GRAPH, HOOK, LOOPS, PLAIN, PLAIN_THREE, PLAIN_TWO, REST, TURN, TURN_SIX, made,
+    ALL, ARROWS, CHAIN, FLIP, FLIPPED, GRAPH, LINKED, LOOPS, PLAIN, PLAIN_THREE, PLAIN_TWO, REST, RESTED, RIGHT, TURN,
+    TURNED, made, nothing_of,
 )
-
-# Three arrows between two points: 0 to 1, 1 to 1, 1 to 0.
-ARROWS = ((3, 2), ((0, 1, 1), (1, 1, 0)))
-FLIPPED = ((3,), ((1, 0, 2),))
-RESTED = ((4,), ((2, 1, 2, 1),))
-TURNED = ((4,), ((1, 2, 0, 3), (2, 0, 1, 3)))
-LINKED = ((2, 3, 2), ((2, 0), (1, 0, 0), (0, 1)))
-# Points 0 and 1 with their own arrows 0 and 2, and an arrow 1 from point 0 to point 1.
-LOOPED = ((3, 2), ((0, 0, 1), (0, 1, 1), (0, 2), (0, 0, 2), (0, 2, 2)))
-HOOKED = ((1, 1, 2), ((0,), (1,), (1, 1), (1,), (1,)))
-
-RIGHT = (
-    (PLAIN, ((5,), ())),
-    (PLAIN_TWO, ((0, 3), ())),
-    (PLAIN_THREE, ((1, 0, 2), ())),
-    (GRAPH, ARROWS),
-    (FLIP, FLIPPED),
-    (REST, RESTED),
-    (TURN, TURNED),
-    (TURN_SIX, ((3,), ((1, 2, 0), (2, 0, 1), (0, 1, 2), (1, 2, 0), (2, 0, 1)))),
-    (CHAIN, LINKED),
-    (LOOPS, LOOPED),
-    (HOOK, HOOKED),
-)
-
-
-def nothing_of(sample):
-    """The world without things."""
-    return ((0,) * sample[0], ((),) * len(sample[1]))
 
 
 class Things(unittest.TestCase):
