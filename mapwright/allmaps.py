@@ -6,21 +6,30 @@ where it and all that is below it can be led together, and the maps are what the
 
 from mapwright.errors import TooMany
 from mapwright.tables import folded, unfolded
-from mapwright.worlds import led, spots
+from mapwright.worlds import reached, spots
 
 MOST_MAPS = 2000
+SOME_ROWS = 5000
 
 
 def maps(pattern, one, other):
     """All maps of the one world into the other, in their order."""
-    told = folded(goal_tables(pattern, one, other), times, plus)
+    tables = goal_tables(pattern, one, other)
+    # Where there are very many, some of them are found much sooner than all are counted.
+    check_many(all_together(folded(tables, times, plus, SOME_ROWS)[1]))
+    told = folded(tables, times, plus)
     many = all_together(told[1])
-    if many > MOST_MAPS:
-        raise TooMany("there are more than 2000 maps")
+    check_many(many)
     # Where one piece has no map, the others may have more than can be told.
     if many == 0:
         return []
     return sorted([as_map(one, goals) for goals in unfolded(told[0])])
+
+
+def check_many(many):
+    """Refuse more maps than are told."""
+    if many > MOST_MAPS:
+        raise TooMany("there are more than 2000 maps")
 
 
 def many_maps(pattern, one, other):
@@ -52,12 +61,6 @@ def heads(pattern, world):
             covered.update(dict(zip(below, below)))
             told = [head for head in told if head not in below] + [spot]
     return told
-
-
-def reached(pattern, world, spot):
-    """For each way from a thing the thing to which it leads, as tuples (kind, thing)."""
-    kind = spot[0]
-    return [(pattern.end(kind, way), led(world, spot[1], way)) for way in pattern.ways(kind)]
 
 
 def goal_tables(pattern, one, other):

@@ -1,5 +1,6 @@
 """Pieces: the least parts of a world that no doing binds to anything else."""
 
+from mapwright.parts import as_part
 from mapwright.worlds import spots
 
 
@@ -39,11 +40,3 @@ def linked(links, start):
                 found[spot] = True
                 ahead.append(spot)
     return found
-
-
-def as_part(world, members):
-    """For each kind the numbers of the things that are members, rising."""
-    rows = []
-    for kind, size in enumerate(world[0]):
-        rows.append(tuple([thing for thing in range(size) if (kind, thing) in members]))
-    return tuple(rows)

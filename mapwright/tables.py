@@ -33,14 +33,26 @@ def picked(row, places):
     return tuple([row[place] for place in places])
 
 
-def all_joined(tables, times):
-    """One table of one or more."""
+def all_joined(tables, times, most=None):
+    """One table of one or more, cut down to so many rows at most."""
     # Short tables first, so that fewer rows are made that go with nothing behind.
     ordered = sorted(tables, key=lambda table: len(table[1]))
     whole = ordered[0]
     for table in ordered[1:]:
-        whole = joined(whole, table, times)
+        whole = cut_down(joined(whole, table, times), most)
     return whole
+
+
+def cut_down(table, most):
+    """The table with its first rows alone, so many at most; None bounds nothing."""
+    if most is None or len(table[1]) <= most:
+        return table
+    # By one order of the spots for all tables, as else the rows that are left may go with none of another table.
+    places = places_of(table[0], sorted(table[0]))
+    rows = {}
+    for row in sorted(table[1], key=lambda values: picked(values, places))[:most]:
+        rows[row] = table[1][row]
+    return (table[0], rows)
 
 
 def without(table, spot, plus):
@@ -91,11 +103,12 @@ def kept_rows(spots, rows, shared):
     return kept
 
 
-def folded(tables, times, plus):
+def folded(tables, times, plus, most=None):
     """A tuple of the steps, each (spot, table), and of the weights to which all comes.
 
     Each step puts all tables with its spot together to one, and goes on with that one without the spot. A table
-    without spots is a weight, or None where it has no row.
+    without spots is a weight, or None where it has no row. Where most is told, no step goes on with more rows: this
+    is quick, but then not all that there is comes to the weights.
     """
     steps = []
     weights = []
@@ -103,7 +116,7 @@ def folded(tables, times, plus):
     shared = shared_values(left)
     while left:
         spot = next_spot(left, shared)
-        whole = all_joined([table for table in left if spot in table[0]], times)
+        whole = all_joined([table for table in left if spot in table[0]], times, most)
         steps.append((spot, whole))
         rest = without(whole, spot, plus)
         left = [table for table in left if spot not in table[0]]

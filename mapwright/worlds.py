@@ -59,6 +59,20 @@ def spots(world):
     return told
 
 
+def reached(pattern, world, spot):
+    """For each way from a thing the thing to which it leads, as tuples (kind, thing)."""
+    kind = spot[0]
+    return [(pattern.end(kind, way), led(world, spot[1], way)) for way in pattern.ways(kind)]
+
+
+def numbered(row):
+    """A dict that tells for each that stands in a row at which place."""
+    numbers = {}
+    for number, some in enumerate(row):
+        numbers[some] = number
+    return numbers
+
+
 def renumbered(pattern, world, orders):
     """The world in which thing i of a kind is called what stands at place i of the kind's order."""
     acts = []

@@ -14,6 +14,10 @@ GRAPH = (2, ((0, 1), (0, 1)), {})
 FLIP = (1, ((0, 0),), {(0, 0): -1})
 REST = (1, ((0, 0),), {(0, 0): 0})
 
+# Of two doings the one counts that is done first; and in the other pattern the one that is done last.
+FIRST = (1, ((0, 0), (0, 0)), {(0, 0): 0, (0, 1): 0, (1, 0): 1, (1, 1): 1})
+LAST = (1, ((0, 0), (0, 0)), {(0, 0): 0, (0, 1): 1, (1, 0): 0, (1, 1): 1})
+
 # A turn, and the turn done twice; done three times it is staying.
 TURN = (1, ((0, 0), (0, 0)), {(0, 0): 1, (0, 1): -1, (1, 0): -1, (1, 1): 0})
 
@@ -46,6 +50,7 @@ HOOK = (
     {(0, 1): 3, (1, 2): 1, (2, 2): 2, (3, 2): 3, (4, 2): 4},
 )
 
+# All but FIRST and LAST, on which only some tests draw.
 ALL = (PLAIN, PLAIN_TWO, PLAIN_THREE, GRAPH, FLIP, REST, TURN, TURN_SIX, CHAIN, LOOPS, HOOK)
 
 # Three arrows between two points: 0 to 1, 1 to 1, 1 to 0.
@@ -95,3 +100,13 @@ def table_without(sample, pair):
 def nothing_of(sample):
     """The world without things."""
     return ((0,) * sample[0], ((),) * len(sample[1]))
+
+
+def empty_part(sample):
+    """The part without things."""
+    return ((),) * sample[0]
+
+
+def singles_of(sample, many):
+    """The world of so many things of each kind, in which each doing leads to the thing of the same number."""
+    return ((many,) * sample[0], (tuple(range(many)),) * len(sample[1]))

@@ -43,6 +43,23 @@ def small_worlds(sample, most=2):
     return worlds
 
 
+def slow_parts(sample, world):
+    """All parts, in their order."""
+    rows = []
+    for size in world[0]:
+        rows.append([row for many in range(size + 1) for row in itertools.combinations(range(size), many)])
+    return sorted([part for part in itertools.product(*rows) if not leads_out(sample, world, part)])
+
+
+def leads_out(sample, world, part):
+    """Whether a doing leads a thing of the rows to one that they don't have."""
+    for doing, (start, goal) in enumerate(sample[1]):
+        for thing in part[start]:
+            if world[1][doing][thing] not in part[goal]:
+                return True
+    return False
+
+
 def some_pairs(sample, most=2, limit=400):
     """Pairs of small worlds: all of them, or some from all over where there are more than the limit."""
     worlds = small_worlds(sample, most)

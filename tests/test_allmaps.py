@@ -1,5 +1,6 @@
 """Promise 30, and 1 for it."""
 
+import itertools
 import unittest
 
 from mapwright import errors
@@ -54,6 +55,12 @@ TOLD = (
     (TURN, TURNED, TURNED, [((0, 1, 2, 3),), ((1, 2, 0, 3),), ((2, 0, 1, 3),), ((3, 3, 3, 3),)]),
     (LOOPS, LOOPED, LOOPED, [((0, 0, 0), (0, 0)), ((0, 1, 2), (0, 1)), ((2, 2, 2), (1, 1))]),
 )
+
+
+def from_each_to_each_other(many):
+    """So many points with an arrow from each to each other one, but none to itself."""
+    ends = list(itertools.permutations(range(many), 2))
+    return ((len(ends), many), (tuple([one for one, other in ends]), tuple([other for one, other in ends])))
 
 
 class AllMaps(unittest.TestCase):
@@ -209,6 +216,18 @@ class TooManyMaps(unittest.TestCase):
     def test_many_arrows_between_many_points(self):
         # Points 0 to 3 can go nowhere but to the star's point 0, the others then anywhere else.
         self.assert_refused(COLOURS, BRIDGES, STAR, 60 ** 4, ((0,) * 8, (0,) * 8, (0,) * 4 + (1,) * 4))
+
+    def test_unlike_points_to_unlike_ones(self):
+        # So many tables bound up with one another that only some of what they have in common is looked at first.
+        five = from_each_to_each_other(5)
+        seven = from_each_to_each_other(7)
+        arrows = [6 * one + other - (other > one) for one in range(5) for other in range(5) if one != other]
+        self.assert_refused(GRAPH, five, seven, 7 * 6 * 5 * 4 * 3, (tuple(arrows), (0, 1, 2, 3, 4)))
+        six = from_each_to_each_other(6)
+        told = maps(made(GRAPH), six, six)
+        self.assertEqual([some[1] for some in told], sorted(itertools.permutations(range(6))))
+        self.assertEqual([some for some in told if not is_map(made(GRAPH), six, six, some)], [])
+        self.assertEqual(maps(made(GRAPH), six, five), [])
 
     def test_the_first_is_not_the_first_of_each_thing_alone(self):
         # Arrow 0 alone could go to arrow 0, but from there no arrow leads on.

@@ -29,6 +29,11 @@ splitlines startswith strip update upper values zfill bit_length
 WALKS = ("zip", "enumerate", "reversed", "range")
 WALK_METHODS = ("items", "keys", "values")
 WALKERS = ("list", "tuple", "dict", "sorted", "sum", "any", "all", "enumerate", "zip", "min", "max")
+CHANGES = ("append", "clear", "extend", "insert", "pop", "remove", "reverse", "setdefault", "update")
+KEYWORDS = {
+    "sorted": ("key", "reverse"), "min": ("key", "default"), "max": ("key", "default"), "sum": ("start",),
+    "enumerate": ("start",), "zip": ("strict",),
+}
 SPECIAL_METHODS = ("__init__", "__eq__", "__repr__", "__str__", "__len__")
 
 
@@ -55,6 +60,27 @@ def is_walk(node):
     if isinstance(node, ast.Call) and isinstance(node.func, ast.Attribute):
         return node.func.attr in WALK_METHODS
     return called(node) in WALKS
+
+
+def walked_names(node):
+    """The plain names that a loop walks, itself or through what is walked at once."""
+    if isinstance(node, ast.Name):
+        return [node.id]
+    if called(node) in WALKS:
+        return [name for inner in node.args for name in walked_names(inner)]
+    if is_walk(node):
+        return walked_names(node.func.value)
+    return []
+
+
+def changed_names(node):
+    """The plain names of what a node of the tree changes in place."""
+    found = []
+    if isinstance(node, ast.Call) and isinstance(node.func, ast.Attribute) and node.func.attr in CHANGES:
+        found.append(node.func.value)
+    if isinstance(node, ast.Subscript) and isinstance(node.ctx, ast.Store):
+        found.append(node.value)
+    return [inner.id for inner in found if isinstance(inner, ast.Name)]
 
 
 class Form(unittest.TestCase):
@@ -146,6 +172,37 @@ class Form(unittest.TestCase):
             for node in ast.walk(tree):
                 if is_walk(node):
                     self.assertIn(node, walked, f"{file.name}:{node.lineno}")
+
+    def test_what_a_loop_walks_is_not_changed_in_it(self):
+        for place, node in self.nodes():
+            if isinstance(node, ast.For):
+                walked = walked_names(node.iter)
+                for row in node.body:
+                    for inner in ast.walk(row):
+                        for name in changed_names(inner):
+                            self.assertNotIn(name, walked, place)
+
+    def test_is_stands_beside_none_true_and_false_alone(self):
+        for place, node in self.nodes():
+            if isinstance(node, ast.Compare) and isinstance(node.ops[0], (ast.Is, ast.IsNot)):
+                self.assertIsInstance(node.comparators[0], ast.Constant, place)
+                self.assertIn(node.comparators[0].value, (None, True, False), place)
+
+    def test_keywords(self):
+        for place, node in self.nodes():
+            if isinstance(node, ast.Call):
+                words = [keyword.arg for keyword in node.keywords]
+                allowed = KEYWORDS.get(called(node), ())
+                if called(node) is None or called(node) in OWN_NAMES:
+                    self.assertEqual([word for word in words if word not in allowed], [], place)
+
+    def test_numbers_and_texts(self):
+        for place, node in self.nodes():
+            if isinstance(node, ast.Constant) and isinstance(node.value, str):
+                self.assertNotIn("%", node.value, place)
+            if isinstance(node, ast.BinOp) and isinstance(node.op, ast.Pow):
+                self.assertIsInstance(node.right, ast.Constant, place)
+            self.assertNotEqual(called(node), "chr", place)
 
     def test_sets_are_not_kept(self):
         for file, tree in self.trees.items():

@@ -8,8 +8,8 @@ from mapwright.patterns import Pattern
 from mapwright.seeds import map_at, seed, thing_at
 from mapwright.worlds import is_world, led
 from tests.samples import (
-    ALL, ARROWS, CHAIN, FLIP, FLIPPED, GRAPH, HOOK, LINKED, LOOPED, LOOPS, PLAIN, PLAIN_THREE, PLAIN_TWO, REST, RESTED,
-    RIGHT, TURN, TURN_SIX, TURNED, made, nothing_of,
+    ALL, ARROWS, CHAIN, FIRST, FLIP, FLIPPED, GRAPH, HOOK, LAST, LINKED, LOOPED, LOOPS, PLAIN, PLAIN_THREE, PLAIN_TWO,
+    REST, RESTED, RIGHT, TURN, TURN_SIX, TURNED, made, nothing_of,
 )
 from tests.slow import slow_maps, small_worlds
 
@@ -81,12 +81,8 @@ class Seeds(unittest.TestCase):
                         self.assertEqual(rows[goal][told[1][doing][thing]], pattern.behind(way, doing))
 
     def test_the_way_comes_first_and_then_the_doing(self):
-        # What is done first counts, and in the other pattern what is done last.
-        doings = ((0, 0), (0, 0))
-        first = (1, doings, {(0, 0): 0, (0, 1): 0, (1, 0): 1, (1, 1): 1})
-        last = (1, doings, {(0, 0): 0, (0, 1): 1, (1, 0): 0, (1, 1): 1})
-        self.assertEqual(seed(made(first), 0), ((3,), ((1, 1, 2), (2, 1, 2))))
-        self.assertEqual(seed(made(last), 0), ((3,), ((1, 1, 1), (2, 2, 2))))
+        self.assertEqual(seed(made(FIRST), 0), ((3,), ((1, 1, 2), (2, 1, 2))))
+        self.assertEqual(seed(made(LAST), 0), ((3,), ((1, 1, 1), (2, 2, 2))))
 
     def test_tuples_of_tuples(self):
         for sample, kind, wanted in SEEDS:

@@ -4,7 +4,7 @@ import itertools
 import random
 import unittest
 
-from mapwright.tables import folded, joined, trimmed, unfolded, without
+from mapwright.tables import cut_down, folded, joined, trimmed, unfolded, without
 
 
 def times(one, other):
@@ -67,26 +67,62 @@ class Tables(unittest.TestCase):
         self.assertEqual(sorted(told[1]), [5, 7])
         self.assertEqual(len(unfolded(told[0])), 2)
 
+    def test_cut_down_to_the_first_rows_by_the_order_of_spots(self):
+        table = (("b", "a"), {(1, 0): 2, (0, 1): 3, (2, 0): 5})
+        self.assertEqual(cut_down(table, None), table)
+        self.assertEqual(cut_down(table, 3), table)
+        self.assertEqual(cut_down(table, 2), (("b", "a"), {(1, 0): 2, (2, 0): 5}))
+        self.assertEqual(cut_down(table, 1), (("b", "a"), {(1, 0): 2}))
+        self.assertEqual(table[1], {(1, 0): 2, (0, 1): 3, (2, 0): 5})
+
+    def test_cut_down_no_weight_is_greater_than_it_is(self):
+        for spots, tables in some_tables():
+            many = all_times(folded(tables, times, plus)[1])
+            with self.subTest(tables=tables):
+                for most in (1, 2, 5, 20):
+                    self.assertLessEqual(all_times(folded(tables, times, plus, most)[1]), many)
+                self.assertEqual(all_times(folded(tables, times, plus, 1000)[1]), many)
+
+    def test_cut_down_much_is_left_where_all_goes_together(self):
+        # Nine spots with two values each, each bound to each, but all rows are there.
+        pairs = list(itertools.combinations(range(9), 2))
+        tables = [(pair, {row: 1 for row in itertools.product(range(2), repeat=2)}) for pair in pairs]
+        self.assertEqual(all_times(folded(tables, times, plus)[1]), 512)
+        self.assertGreaterEqual(all_times(folded(tables, times, plus, 64)[1]), 64)
+
     def test_against_a_slow_search(self):
-        # The same tables each time the test is run.
-        chance = random.Random(30)
-        for time in range(200):
-            spots = range(chance.randint(1, 5))
-            tables = []
-            for spot in spots:
-                here = tuple(sorted(set([spot] + [chance.choice(spots) for other in range(2)])))
-                rows = itertools.product(range(3), repeat=len(here))
-                tables.append((here, {row: chance.randint(1, 4) for row in rows if chance.randint(0, 2)}))
+        for spots, tables in some_tables():
             told = folded(tables, times, plus)
             weights = slow_weights(spots, tables)
             with self.subTest(tables=tables):
-                many = 1
-                for weight in told[1]:
-                    many *= weight or 0
+                many = all_times(told[1])
                 self.assertEqual(many, sum(weights.values()))
                 if many:
                     found = [tuple([values[spot] for spot in spots]) for values in unfolded(told[0])]
                     self.assertEqual(sorted(found), sorted(weights))
+
+
+def some_tables():
+    """Spots and tables of them, the same each time the test is run."""
+    chance = random.Random(30)
+    told = []
+    for time in range(200):
+        spots = range(chance.randint(1, 5))
+        tables = []
+        for spot in spots:
+            here = tuple(sorted(set([spot] + [chance.choice(spots) for other in range(2)])))
+            rows = itertools.product(range(3), repeat=len(here))
+            tables.append((here, {row: chance.randint(1, 4) for row in rows if chance.randint(0, 2)}))
+        told.append((spots, tables))
+    return told
+
+
+def all_times(weights):
+    """The weights of all together, None being none."""
+    many = 1
+    for weight in weights:
+        many *= weight or 0
+    return many
 
 
 def slow_weights(spots, tables):
