@@ -1,20 +1,13 @@
 """Pieces: the least parts of a world that no doing binds to anything else."""
 
+from mapwright.links import all_linked
 from mapwright.parts import as_part
 from mapwright.worlds import spots
 
 
 def pieces(pattern, world):
     """The pieces of a world, in the order of their first things."""
-    links = all_links(pattern, world)
-    seen = {}
-    told = []
-    for spot in links:
-        if spot not in seen:
-            piece = linked(links, spot)
-            seen.update(piece)
-            told.append(as_part(world, piece))
-    return told
+    return [as_part(world, piece) for piece in all_linked(all_links(pattern, world))]
 
 
 def all_links(pattern, world):
@@ -27,16 +20,3 @@ def all_links(pattern, world):
             links[(ends[0], thing)].append((ends[1], goal))
             links[(ends[1], goal)].append((ends[0], thing))
     return links
-
-
-def linked(links, start):
-    """A dict of all things that hang together with a thing."""
-    found = {start: True}
-    ahead = [start]
-    while ahead:
-        here = ahead.pop()
-        for spot in links[here]:
-            if spot not in found:
-                found[spot] = True
-                ahead.append(spot)
-    return found

@@ -1,7 +1,6 @@
 """The world of all maps of a world into another one, and maps of products as maps into it."""
 
-from mapwright.allmaps import maps
-from mapwright.errors import TooMany
+from mapwright.allmaps import some_maps
 from mapwright.joins import paired, product
 from mapwright.maps import then
 from mapwright.seeds import map_at, seed, ways_by_ends
@@ -24,10 +23,7 @@ def power(pattern, one, other):
 
 def maps_of_kind(pattern, kind, one, other):
     """The maps of the product of a kind's seed and the one into the other."""
-    told = maps(pattern, product(pattern, seed(pattern, kind), one)[0], other)
-    if len(told) > MOST_THINGS:
-        raise TooMany("the world of all maps would have more than 60 things of a kind")
-    return tuple(told)
+    return tuple(some_maps(pattern, product(pattern, seed(pattern, kind), one)[0], other, MOST_THINGS))
 
 
 def ahead_of(pattern, doing):
@@ -72,4 +68,5 @@ def map_from(pattern, more, one, some, kind, thing):
 
 def brought(pattern, more, one, other, some):
     """The map of the product of the further world and the one that a map into the world of all maps comes from."""
-    return then(beside(pattern, more, one, some), asked(pattern, one, other))
+    told = asked(pattern, one, other)
+    return then(beside(pattern, more, one, some), told)

@@ -218,7 +218,7 @@ class TooManyMaps(unittest.TestCase):
         self.assert_refused(COLOURS, BRIDGES, STAR, 60 ** 4, ((0,) * 8, (0,) * 8, (0,) * 4 + (1,) * 4))
 
     def test_unlike_points_to_unlike_ones(self):
-        # So many tables bound up with one another that only some of what they have in common is looked at first.
+        # So many arrows bound up with one another that no few of them tell where the others can go.
         five = from_each_to_each_other(5)
         seven = from_each_to_each_other(7)
         arrows = [6 * one + other - (other > one) for one in range(5) for other in range(5) if one != other]
