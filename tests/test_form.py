@@ -34,6 +34,7 @@ KEYWORDS = {
     "sorted": ("key", "reverse"), "min": ("key", "default"), "max": ("key", "default"), "sum": ("start",),
     "enumerate": ("start",), "zip": ("strict",),
 }
+KEYS = ["len", "int", "str", "abs", "sum", "min", "max", "tuple"]
 SPECIAL_METHODS = ("__init__", "__eq__", "__repr__", "__str__", "__len__")
 
 
@@ -230,6 +231,42 @@ class Form(unittest.TestCase):
                 here = [found for top in tops for found in bound_names(top)]
                 for alias in node.names:
                     self.assertIn(alias.name, here, place)
+
+    def test_what_is_drawn_is_used(self):
+        for file, tree in self.trees.items():
+            used = [node.id for node in ast.walk(tree) if isinstance(node, ast.Name)]
+            for node in tree.body:
+                if isinstance(node, ast.ImportFrom):
+                    for alias in node.names:
+                        self.assertIn(alias.name, used, f"{file.name}:{node.lineno}")
+
+    def test_the_top_of_a_file(self):
+        for file, tree in self.trees.items():
+            self.assertIsNotNone(ast.get_docstring(tree), file.name)
+            for node in tree.body[1:]:
+                if isinstance(node, ast.Assign):
+                    self.assertIsInstance(node.targets[0], ast.Name, f"{file.name}:{node.lineno}")
+                    ast.literal_eval(node.value)
+                else:
+                    self.assertIsInstance(node, (ast.ImportFrom, ast.FunctionDef, ast.ClassDef), file.name)
+
+    def test_what_is_taken_of_errors(self):
+        for place, node in self.nodes():
+            if isinstance(node, ast.Try):
+                self.assertEqual((node.finalbody, len(node.body)), ([], 1), place)
+                taken = [handler.type.id for handler in node.handlers]
+                calls = [called(inner) for inner in ast.walk(node.body[0]) if isinstance(inner, ast.Call)]
+                if "ValueError" in taken:
+                    self.assertEqual([name for name in calls if name not in ("int", "str")], [], place)
+                self.assertEqual([name for name in taken if name in ("Exception", "TypeError")], [], place)
+
+    def test_keys(self):
+        for file, tree in self.trees.items():
+            own = [node.name for node in ast.walk(tree) if isinstance(node, ast.FunctionDef)]
+            own.extend([alias.name for node in tree.body if isinstance(node, ast.ImportFrom) for alias in node.names])
+            for node in ast.walk(tree):
+                if isinstance(node, ast.keyword) and node.arg == "key" and not isinstance(node.value, ast.Lambda):
+                    self.assertIn(node.value.id, own + KEYS, f"{file.name}:{node.value.lineno}")
 
     def test_no_two_files_draw_from_one_another(self):
         drawn = {}
